@@ -1,0 +1,1 @@
+"""Emptybox: boxes without walls in rooms with straight walls."""

@@ -1,0 +1,123 @@
+"""Rooms to test with, and slow answers found by other means than the program's."""
+
+import copy
+import functools
+import itertools
+import random
+
+GREAT = 10 ** 6
+
+
+def all_walls(wide, high):
+    """Each wall of such a room, rising."""
+    return [(a, b, c, d)
+            for a in range(wide + 1) for b in range(high + 1)
+            for c in range(a, wide + 1) for d in range(b, high + 1)]
+
+
+def all_boxes(wide, high):
+    """Each box of such a room, rising."""
+    return [wall for wall in all_walls(wide, high) if wall[0] < wall[2] and wall[1] < wall[3]]
+
+
+def small_rooms():
+    """All rooms of some small sizes with at most two walls."""
+    for wide, high in ((1, 1), (2, 1), (1, 2), (2, 2)):
+        for many in range(3):
+            for walls in itertools.combinations(all_walls(wide, high), many):
+                yield (wide, high, walls)
+
+
+def mixed_rooms(many=60, most_walls=8):
+    """Rooms up to 7 wide and high with small walls, the same ones each time."""
+    source = random.Random(20)
+    for at in range(many):
+        wide, high = source.randint(1, 7), source.randint(1, 7)
+        walls = [wall for wall in all_walls(wide, high) if wall[2] - wall[0] + wall[3] - wall[1] < 4]
+        yield (wide, high, tuple(sorted(source.sample(walls, min(len(walls), at % (most_walls + 1))))))
+
+
+def room_of_thirty(times=1):
+    """A room with 30 walls, ten of each kind, made greater by times."""
+    points = [(2 * k % 11, 3 * k % 11, 2 * k % 11, 3 * k % 11) for k in range(10)]
+    straight = [(k, 4, k, 6) if k % 2 else (4, k, 6, k) for k in range(10)]
+    blocks = [(k, 9 - k, k + 1, 10 - k) for k in range(10)]
+    walls = sorted(points + straight + blocks)
+    return (10 * times, 10 * times, tuple(tuple(times * part for part in wall) for wall in walls))
+
+
+def scaled(box, times):
+    return tuple(times * part for part in box)
+
+
+def half_steps(low, high, edges):
+    """The places from low to high, in half steps, with its ends or without."""
+    return range(2 * low, 2 * high + 1) if edges else range(2 * low + 1, 2 * high)
+
+
+@functools.lru_cache(maxsize=None)
+def is_in(wall, box):
+    """Whether a wall lies in a box: some place of it is inside, not at a side."""
+    across = set(half_steps(wall[0], wall[2], True)) & set(half_steps(box[0], box[2], False))
+    up = set(half_steps(wall[1], wall[3], True)) & set(half_steps(box[1], box[3], False))
+    return bool(across and up)
+
+
+def numbers_in(room, box):
+    return [k for k in range(len(room[2])) if is_in(room[2][k], box)]
+
+
+def cells(box):
+    """The 1 by 1 boxes that a box is made of, by their lower left corners."""
+    return {(x, y) for x in range(box[0], box[2]) for y in range(box[1], box[3])}
+
+
+def step_out(box, side, far):
+    """The box with one side moved out."""
+    left, low, right, top = box
+    return ((left - far, low, right, top), (left, low - far, right, top),
+            (left, low, right + far, top), (left, low, right, top + far))[side]
+
+
+def fits_in_room(room, box):
+    return box[0] >= 0 and box[1] >= 0 and box[2] <= room[0] and box[3] <= room[1]
+
+
+def reach_by_steps(room, box, side):
+    """How far a side can be moved out, tried step by step."""
+    far = 0
+    while True:
+        wider = step_out(box, side, far + 1)
+        if not fits_in_room(room, wider) or numbers_in(room, wider):
+            return far
+        far += 1
+
+
+def nested(depth, of=tuple, inner=0):
+    """A thing that many tuples or lists deep."""
+    for _ in range(depth):
+        inner = of([inner])
+    return inner
+
+
+def odd_things():
+    """Things of all sorts that are no number, no wall, no box and no room."""
+    return [True, False, None, "", "room", "1", "0011", [], [[]], (), ((),), ("a", "b", "c"),
+            [0, 0, 1, 1], [1, 1, ()], (0,), (0, 0), (0, 0, 0), (0, 0, 0, 0, 0), (None,) * 4, (None,) * 3,
+            ("0", "0", "1", "1"), (False, False, True, True), (True, True, ()),
+            ((0, 0, 1, 1),) * 4, ([], [], [], []), nested(30), nested(30, list), nested(30, tuple, "a"),
+            (nested(29), 1, ()), (1, nested(29, list), ()), (1, 1, nested(29)), (1, 1, nested(29, list)),
+            (nested(29), nested(29), nested(29), nested(29)), (0, 0, 1, nested(29, list))]
+
+
+def with_part(thing, at, part):
+    """A tuple with one part put in another one's stead."""
+    return thing[:at] + (part,) + thing[at + 1:]
+
+
+def ask_keeping(test, ask, *told):
+    """What ask tells, and that it changed nothing that it was handed."""
+    before = copy.deepcopy(told)
+    answer = ask(*told)
+    test.assertEqual(told, before)
+    return answer

@@ -1,0 +1,293 @@
+"""That the package keeps to ../shared/LANGUAGE.md, as far as a test can look at it."""
+
+import ast
+import builtins
+import io
+import pathlib
+import re
+import tokenize
+import unittest
+
+PACKAGE = pathlib.Path(__file__).resolve().parent.parent / "emptybox"
+
+BUILTINS = set("""len range enumerate zip min max sum abs sorted reversed int str bool bytes list tuple dict set
+    frozenset isinstance ord repr any all divmod Exception ValueError TypeError KeyError IndexError LookupError
+    ZeroDivisionError ArithmeticError OverflowError RuntimeError NotImplementedError AttributeError
+    StopIteration NotImplemented""".split())
+BARRED_WORDS = set("""type typing typing_extensions enum Enum IntEnum StrEnum Flag IntFlag Generic Protocol ABC
+    ABCMeta namedtuple NamedTuple TypedDict TYPE_CHECKING abstractmethod""".split())
+BARRED_PARTS = ("dataclass", "overload", "contextmanager")
+BARRED_NAMES = set("""register mro elements open input version_info with_traceback add_note attrgetter breakpoint
+    builtins compile copyright credits delattr dir eval exec exit gc getattr globals hasattr help id importlib
+    license locals methodcaller os quit setattr super type vars sys""".split())
+DOUBLE = set("""__init__ __eq__ __repr__ __str__ __len__ __enter__ __exit__ __call__ __iter__ __bool__ __contains__
+    __lt__ __le__ __gt__ __ge__ __ne__ __getitem__ __setitem__ __add__ __sub__ __mul__ __neg__""".split())
+BARRED_FILES = {"test", "tests", "testing", "site", "conftest", "sitecustomize", "usercustomize"}
+VALUE_METHODS = {name for kind in (str, bytes, int, list, tuple, dict, set)
+                 for name in vars(kind) if not name.startswith("__")}
+METHODS = set("""append clear copy count endswith extend find get index insert isalnum isalpha isdigit islower
+    isspace isupper items join keys ljust lower lstrip partition pop remove replace reverse rfind rjust rpartition
+    rsplit rstrip setdefault split splitlines startswith strip update upper values zfill bit_length title
+    capitalize swapcase casefold center expandtabs removeprefix removesuffix rindex isascii isdecimal isnumeric
+    istitle isidentifier isprintable translate maketrans sort add discard encode decode hex fromhex to_bytes
+    from_bytes""".split())
+BARRED_NODES = (ast.Global, ast.AsyncFunctionDef, ast.AsyncFor, ast.AsyncWith, ast.Await, ast.Div, ast.MatMult)
+FUNCTIONS = (ast.FunctionDef, ast.Lambda)
+
+
+def size_faults(text):
+    rows = text.splitlines()
+    faults = ["L10 file"] if len(rows) > 400 else []
+    faults += [f"L10 row {at + 1}" for at, row in enumerate(rows) if len(row) > 120 or "\t" in row]
+    faults += [f"L10 function {node.name}" for node in ast.walk(ast.parse(text))
+               if isinstance(node, ast.FunctionDef) and node.end_lineno - node.lineno >= 40]
+    return faults
+
+
+def character_faults(text):
+    faults = ["L14 character" for sign in text if sign != "\n" and not " " <= sign <= "~"]
+    faults += [f"L17 {word}" for word in re.findall(r"\w+", text) if word in BARRED_WORDS]
+    faults += [f"L17 {part}" for part in BARRED_PARTS if part in text]
+    for token in tokenize.generate_tokens(io.StringIO(text).readline):
+        if token.type == tokenize.STRING or "FSTRING" in tokenize.tok_name[token.type]:
+            faults += ["L27 percent sign"] if "%" in token.string else []
+            faults += ["L27 escape"] if re.search(r"\\[^nt\\'\"]", token.string) else []
+    return faults
+
+
+def bound_names(node):
+    """The names that a node gives a meaning."""
+    if isinstance(node, ast.Name) and not isinstance(node.ctx, ast.Load):
+        return [node.id]
+    if isinstance(node, (ast.FunctionDef, ast.ClassDef)):
+        return [node.name]
+    if isinstance(node, ast.arg):
+        return [node.arg]
+    if isinstance(node, ast.ExceptHandler) and node.name:
+        return [node.name]
+    if isinstance(node, ast.alias):
+        return [node.asname or node.name]
+    return []
+
+
+def name_faults(tree):
+    faults = []
+    methods = {part for node in ast.walk(tree) if isinstance(node, ast.ClassDef) for part in node.body}
+    for node in ast.walk(tree):
+        for name in bound_names(node):
+            method = node in methods
+            if not re.fullmatch("[A-Za-z][A-Za-z0-9_]*", name) and not (method and name in DOUBLE):
+                faults.append(f"L12 {name}")
+            if name in BARRED_NAMES or (hasattr(builtins, name) and not method):
+                faults.append(f"L15 {name}")
+        if isinstance(node, ast.Name) and hasattr(builtins, node.id) and node.id not in BUILTINS | {"super"}:
+            faults.append(f"L8 {node.id}")
+        if isinstance(node, ast.Attribute):
+            if node.attr.startswith("_") and node.attr != "__init__":
+                faults.append(f"L12 {node.attr}")
+            if node.attr in VALUE_METHODS - METHODS:
+                faults.append(f"L25 {node.attr}")
+    return faults
+
+
+def shadow_faults(tree):
+    """Names of classes and imports that mean something else within a function."""
+    taken = {name for node in tree.body if isinstance(node, (ast.ClassDef, ast.ImportFrom))
+             for part in [node, *ast.iter_child_nodes(node)] for name in bound_names(part)
+             if isinstance(part, (ast.alias, ast.ClassDef))}
+    inner = [node for whole in ast.walk(tree) if isinstance(whole, FUNCTIONS) for node in ast.walk(whole)]
+    return [f"L15 {name}" for node in inner if isinstance(node, (ast.Name, ast.arg))
+            for name in bound_names(node) if name in taken]
+
+
+def is_docstring(node):
+    return isinstance(node, ast.Expr) and isinstance(node.value, ast.Constant) and isinstance(node.value.value, str)
+
+
+def module_faults(tree):
+    faults, names, past_imports = [], [], False
+    for at, node in enumerate(tree.body):
+        if isinstance(node, ast.ImportFrom):
+            faults += ["L2 import below the top"] if past_imports else []
+            names += [name for part in node.names for name in bound_names(part)]
+        elif not (at == 0 and is_docstring(node)):
+            past_imports = True
+            if not isinstance(node, (ast.FunctionDef, ast.ClassDef, ast.Assign, ast.AnnAssign)):
+                faults.append(f"L3 {type(node).__name__}")
+            names += bound_names(node)
+            names += [name for part in getattr(node, "targets", []) for name in bound_names(part)]
+    return faults + [f"L15 {name} bound twice" for name in set(names) if names.count(name) > 1]
+
+
+def import_faults(tree, package):
+    """package: for each module's full name, the names that it defines."""
+    faults = ["L16 import" for node in ast.walk(tree) if isinstance(node, ast.Import)]
+    for node in ast.walk(tree):
+        if isinstance(node, ast.ImportFrom) and node.module != "__future__":
+            if node.level or node.module not in package or node not in tree.body:
+                faults.append(f"L2 {node.module}")
+            else:
+                faults += [f"L16 {part.name}" for part in node.names if part.name not in package[node.module]]
+    return faults
+
+
+def is_plain_truth(node):
+    return isinstance(node, ast.Constant) and (node.value is None or isinstance(node.value, bool))
+
+
+def node_faults(tree):
+    faults = [f"L6 {type(node).__name__}" for node in ast.walk(tree) if isinstance(node, BARRED_NODES)]
+    for node in ast.walk(tree):
+        if isinstance(node, ast.Constant) and isinstance(node.value, (float, complex)):
+            faults.append("L7 float")
+        if isinstance(node, (ast.FunctionDef, ast.ClassDef)):
+            faults += [f"L4 decorator over {node.name}" for part in node.decorator_list
+                       if getattr(part, "id", None) not in ("property", "staticmethod", "classmethod")
+                       and getattr(part, "attr", None) != "setter"]
+        if isinstance(node, ast.arguments) and node.posonlyargs:
+            faults.append("L4 slash")
+        if isinstance(node, ast.Compare):
+            for sign, one, other in zip(node.ops, [node.left, *node.comparators], node.comparators):
+                if isinstance(sign, (ast.Is, ast.IsNot)) and not (is_plain_truth(one) or is_plain_truth(other)):
+                    faults.append("L20 is")
+        if isinstance(node, ast.ExceptHandler) and (node.type is None or ast.unparse(node.type) in (
+                "Exception", "BaseException", "TypeError")):
+            faults.append("L19 except")
+    return faults
+
+
+def defined_in(text):
+    """The names that a file defines itself."""
+    body = ast.parse(text).body
+    plain = [name for node in body for name in bound_names(node)]
+    return plain + [name for node in body for part in getattr(node, "targets", []) for name in bound_names(part)]
+
+
+def faults_of(text, package):
+    tree = ast.parse(text)
+    return (size_faults(text) + character_faults(text) + name_faults(tree) + shadow_faults(tree)
+            + module_faults(tree) + import_faults(tree, package) + node_faults(tree))
+
+
+def imported_by(text):
+    return {node.module for node in ast.walk(ast.parse(text)) if isinstance(node, ast.ImportFrom)}
+
+
+def has_circle(imports):
+    """Whether some file comes to import itself, imports telling for each file what it imports."""
+    left = dict(imports)
+    while left:
+        ready = [name for name in left if not left[name] & set(left)]
+        if not ready:
+            return True
+        for name in ready:
+            del left[name]
+    return False
+
+
+def file_fault(name):
+    stem = name[:-3]
+    if not re.fullmatch(r"[a-z0-9_]+\.py", name):
+        return True
+    if stem in ("__init__", "__main__"):
+        return False
+    return (stem in BARRED_FILES | BARRED_WORDS or stem.startswith(("_", "test_", "law_"))
+            or hasattr(builtins, stem))
+
+
+def package_texts():
+    paths = sorted(PACKAGE.rglob("*.py"))
+    return {".".join(["emptybox", *path.relative_to(PACKAGE).with_suffix("").parts]): path.read_text("utf-8")
+            for path in paths}
+
+
+class Package(unittest.TestCase):
+    def test_files(self):
+        paths = [path for path in PACKAGE.iterdir() if path.name != "__pycache__"]
+        self.assertIn("__init__.py", [path.name for path in paths])
+        self.assertLessEqual(len(paths), 100)
+        for path in paths:
+            self.assertTrue(path.is_file())
+            self.assertFalse(file_fault(path.name), path.name)
+
+    def test_no_tests_inside(self):
+        for text in package_texts().values():
+            self.assertNotIn("unittest", text)
+
+    def test_each_file_keeps_the_rules(self):
+        texts = package_texts()
+        package = {name: defined_in(text) for name, text in texts.items()}
+        self.assertGreaterEqual(len(texts), 4)
+        for name, text in texts.items():
+            self.assertEqual(faults_of(text, package), [], name)
+
+    def test_no_circle_of_imports(self):
+        self.assertFalse(has_circle({name: imported_by(text) for name, text in package_texts().items()}))
+
+
+class Checks(unittest.TestCase):
+    """That what is looked at above would be found."""
+
+    def found(self, text, rule):
+        faults = faults_of(text, {"emptybox.rooms": ["is_box"]})
+        self.assertTrue(any(fault.startswith(rule + " ") for fault in faults), (text, faults))
+
+    def test_nothing_found(self):
+        text = '"""A file."""\n\nfrom emptybox.rooms import is_box\n\nMOST = 3\n\n\ndef ask(room):\n    return is_box(room, 0)\n'
+        self.assertEqual(faults_of(text, {"emptybox.rooms": ["is_box"]}), [])
+
+    def test_sizes(self):
+        self.found("x = 1\n" + "\n" * 400, "L10")
+        self.found("x = '" + "a" * 116 + "'\n", "L10")
+        self.found("def f():\n\treturn 1\n", "L10")
+        self.found("def f():\n" + "    f()\n" * 40, "L10")
+        self.assertEqual(size_faults("def f():\n" + "    f()\n" * 39 + "#" * 120 + "\n" + "\n" * 359), [])
+
+    def test_characters_and_words(self):
+        self.found("# \u00e4\n", "L14")
+        self.found("# the type of it\n", "L17")
+        self.found("# a dataclasses thing\n", "L17")
+        self.found("x = 'a % b'\n", "L27")
+        self.found("x = '\\x41'\n", "L27")
+
+    def test_names(self):
+        self.found("def f(_a):\n    return _a\n", "L12")
+        self.found("def f(a):\n    return a.__class__\n", "L12")
+        self.found("def f(id):\n    return id\n", "L15")
+        self.found("def f(a):\n    max = a\n    return max\n", "L15")
+        self.found("from emptybox.rooms import is_box\n\n\ndef f(is_box):\n    return is_box\n", "L15")
+        self.found("x = 1\nx = 2\n", "L15")
+        self.found("def f(a):\n    return map(f, a)\n", "L8")
+        self.found("def f(a):\n    return chr(a)\n", "L8")
+        self.found("def f(a):\n    return a.isdisjoint(a)\n", "L25")
+
+    def test_imports(self):
+        self.found("import math\n", "L16")
+        self.found("from math import floor\n", "L2")
+        self.found("from .rooms import is_box\n", "L2")
+        self.found("from emptybox.rooms import is_free\n", "L16")
+        self.found("from emptybox.rooms import *\n", "L16")
+        self.found("x = 1\nfrom emptybox.rooms import is_box\n", "L2")
+        self.found("def f():\n    from emptybox.rooms import is_box\n    return is_box\n", "L2")
+        self.assertTrue(has_circle({"a": {"b"}, "b": {"c"}, "c": {"a"}}))
+        self.assertFalse(has_circle({"a": {"b", "c"}, "b": {"c"}, "c": set()}))
+
+    def test_statements(self):
+        self.found("print(1)\n", "L3")
+        self.found("def f():\n    global x\n    x = 1\n", "L6")
+        self.found("def f(a):\n    return a / 2\n", "L6")
+        self.found("def f(a):\n    return a + 1.5\n", "L7")
+        self.found("@f\ndef g():\n    return 1\n", "L4")
+        self.found("def f(a, /):\n    return a\n", "L4")
+        self.found("def f(a, b):\n    return a is b\n", "L20")
+        self.found("def f():\n    try:\n        f()\n    except Exception:\n        pass\n", "L19")
+
+    def test_file_names(self):
+        for name in ("Rooms.py", "rooms.txt", "test_rooms.py", "len.py", "_rooms.py", "conftest.py", "a-b.py"):
+            self.assertTrue(file_fault(name), name)
+        for name in ("rooms.py", "__init__.py"):
+            self.assertFalse(file_fault(name), name)
+
+
+if __name__ == "__main__":
+    unittest.main()
