@@ -37,6 +37,36 @@ def mixed_rooms(many=60, most_walls=8):
         yield (wide, high, tuple(sorted(source.sample(walls, min(len(walls), at % (most_walls + 1))))))
 
 
+def some_rooms():
+    """All the small rooms, then the mixed ones."""
+    yield from small_rooms()
+    yield from mixed_rooms()
+
+
+def great_rooms(many=6):
+    """Rooms as great as may be with 30 walls, the same ones each time."""
+    source = random.Random(6)
+    for at in range(many):
+        walls = set()
+        while len(walls) < 30:
+            a, b = source.randint(0, GREAT), source.randint(0, GREAT)
+            c, d = (min(GREAT, low + source.choice((0, source.randint(0, GREAT // (2 + 4 * at))))) for low in (a, b))
+            walls.add((a, b, c, d))
+        yield (GREAT, GREAT, tuple(sorted(walls)))
+
+
+def rising_row(many, step=1):
+    """A room with points on a rising row, one step from each other and from the room's ends."""
+    size = (many + 1) * step
+    return (size, size, tuple((k, k, k, k) for k in range(step, size, step)))
+
+
+def falling_row(many, step=1):
+    """The same with a falling row."""
+    size = (many + 1) * step
+    return (size, size, tuple((k, size - k, k, size - k) for k in range(step, size, step)))
+
+
 def room_of_thirty(times=1):
     """A room with 30 walls, ten of each kind, made greater by times."""
     points = [(2 * k % 11, 3 * k % 11, 2 * k % 11, 3 * k % 11) for k in range(10)]
@@ -93,6 +123,50 @@ def reach_by_steps(room, box, side):
         far += 1
 
 
+def free_boxes(room):
+    """All free boxes, rising, by trying each box."""
+    return [box for box in all_boxes(room[0], room[1]) if not numbers_in(room, box)]
+
+
+def bounds_by_steps(room, box):
+    """What bounds each side, by moving each out by one."""
+    ends = (box[0] == 0, box[1] == 0, box[2] == room[0], box[3] == room[1])
+    return [[-1] * ends[side] + numbers_in(room, step_out(box, side, 1)) for side in range(4)]
+
+
+def wide_by_steps(room):
+    """All wide boxes, rising, by trying each free box."""
+    return [box for box in free_boxes(room) if all(bounds_by_steps(room, box))]
+
+
+def parts_beside(box, wall):
+    """The greatest parts of a box that a wall leaves free: all of it where the wall isn't in it."""
+    left, low, right, top = box
+    a, b, c, d = wall
+    if right <= a or c <= left or top <= b or d <= low:
+        return [box]
+    parts = [(left, low, a, top), (left, low, right, b), (c, low, right, top), (left, d, right, top)]
+    return [part for part in parts if part[0] < part[2] and part[1] < part[3]]
+
+
+def is_within(one, other):
+    return other[0] <= one[0] and one[2] <= other[2] and other[1] <= one[1] and one[3] <= other[3]
+
+
+def not_within_another(boxes):
+    """Those of unlike boxes that don't lie in another one of them, rising."""
+    unlike = set(boxes)
+    return sorted(one for one in unlike if not any(one != other and is_within(one, other) for other in unlike))
+
+
+def wide_by_splitting(room):
+    """All wide boxes, rising, however great the room: all of it, parted by one wall after the other."""
+    boxes = [(0, 0, room[0], room[1])]
+    for wall in room[2]:
+        boxes = not_within_another(part for box in boxes for part in parts_beside(box, wall))
+    return boxes
+
+
 def nested(depth, of=tuple, inner=0):
     """A thing that many tuples or lists deep."""
     for _ in range(depth):
@@ -121,3 +195,23 @@ def ask_keeping(test, ask, *told):
     answer = ask(*told)
     test.assertEqual(told, before)
     return answer
+
+
+def lists_in(answer):
+    """Each list in an answer, as often as it stands there."""
+    inner = [one for part in answer for one in lists_in(part)] if isinstance(answer, (list, tuple)) else []
+    return [answer] * isinstance(answer, list) + inner
+
+
+def tells_own_lists(test, ask, *told):
+    """That no list is told twice, and that a change of told lists changes no other answer."""
+    first = ask(*told)
+    kept = copy.deepcopy(first)
+    again = ask(*told)
+    lists = lists_in(first) + lists_in(again)
+    test.assertEqual(len({id(one) for one in lists}), len(lists))
+    for one in lists_in(first):
+        one.append("changed")
+        one.reverse()
+    test.assertEqual(again, kept)
+    test.assertEqual(ask(*told), kept)

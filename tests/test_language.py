@@ -33,6 +33,13 @@ METHODS = set("""append clear copy count endswith extend find get index insert i
     from_bytes""".split())
 BARRED_NODES = (ast.Global, ast.AsyncFunctionDef, ast.AsyncFor, ast.AsyncWith, ast.Await, ast.Div, ast.MatMult)
 FUNCTIONS = (ast.FunctionDef, ast.Lambda)
+KEYWORDS = {"sorted": {"key", "reverse"}, "min": {"key", "default"}, "max": {"key", "default"},
+            "sum": {"start"}, "enumerate": {"start"}, "zip": {"strict"}}
+TAKERS = set("list tuple dict sorted sum min max any all".split())
+RUNS = set("zip enumerate reversed range".split())
+VIEWS = {"items", "keys", "values"}
+PLAIN_VALUES = (ast.Constant, ast.List, ast.Tuple, ast.Dict, ast.Name, ast.UnaryOp, ast.BinOp, ast.operator,
+                ast.unaryop, ast.expr_context)
 
 
 def size_faults(text):
@@ -156,6 +163,85 @@ def node_faults(tree):
     return faults
 
 
+def parents_in(tree):
+    return {part: node for node in ast.walk(tree) for part in ast.iter_child_nodes(node)}
+
+
+def called(node):
+    """The bare name that is called, "" where there is none."""
+    return node.func.id if isinstance(node, ast.Call) and isinstance(node.func, ast.Name) else ""
+
+
+def is_literal_join(node):
+    return (isinstance(node, ast.Call) and isinstance(node.func, ast.Attribute) and node.func.attr == "join"
+            and isinstance(node.func.value, ast.Constant))
+
+
+def is_looped_over(node, parent):
+    return isinstance(parent, (ast.For, ast.comprehension)) and parent.iter is node
+
+
+def is_run(node):
+    """Whether it's to be gone through on the spot."""
+    view = isinstance(node, ast.Call) and isinstance(node.func, ast.Attribute) and node.func.attr in VIEWS
+    return called(node) in RUNS or view
+
+
+def is_set(node):
+    return isinstance(node, (ast.Set, ast.SetComp)) or called(node) == "set"
+
+
+def set_stands_right(node, parent):
+    if isinstance(parent, ast.Compare):
+        return all(isinstance(sign, (ast.In, ast.NotIn, ast.Eq, ast.NotEq)) for sign in parent.ops)
+    if isinstance(parent, ast.BinOp):
+        return isinstance(parent.op, (ast.Sub, ast.BitAnd, ast.BitOr, ast.BitXor))
+    return called(parent) in ("sorted", "len") or (isinstance(parent, ast.Assign) and len(parent.targets) == 1)
+
+
+def place_faults(tree):
+    """What stands where it mustn't."""
+    faults, parents = [], parents_in(tree)
+    for node in ast.walk(tree):
+        parent = parents.get(node)
+        if isinstance(node, ast.GeneratorExp) and not (called(parent) in TAKERS or is_literal_join(parent)):
+            faults.append("L7 generator expression")
+        if is_run(node) and not (is_looped_over(node, parent) or is_literal_join(parent)
+                                 or called(parent) in TAKERS | {"enumerate", "zip", "bytes"}
+                                 or (called(node) == "range" and called(parent) in ("reversed", "len"))
+                                 or (isinstance(parent, ast.Compare) and isinstance(parent.ops[0], ast.In))):
+            faults.append("L23 not gone through at once")
+        if is_set(node) and not set_stands_right(node, parent):
+            faults.append("L24 set")
+        if isinstance(node, ast.Set) and len(node.elts) > 2 and not isinstance(parent, ast.Compare):
+            faults.append("L13 set")
+    return faults
+
+
+def call_faults(tree):
+    faults = []
+    for node in ast.walk(tree):
+        if called(node) in BUILTINS:
+            faults += [f"L22 {part.arg}" for part in node.keywords
+                       if part.arg not in KEYWORDS.get(called(node), ())]
+        if isinstance(node, ast.Call) and isinstance(node.func, ast.Attribute) and node.func.attr in METHODS:
+            faults += [f"L25 {part.arg}" for part in node.keywords
+                       if (node.func.attr, part.arg) not in (("sort", "key"), ("sort", "reverse"))]
+        if isinstance(node, ast.Raise) and node.exc and not called(node.exc):
+            faults.append("L19 raise")
+        if isinstance(node, ast.BinOp) and isinstance(node.op, ast.Pow):
+            if not (isinstance(node.right, ast.Constant) and 0 <= node.right.value <= 64):
+                faults.append("L27 power")
+    return faults
+
+
+def value_faults(tree):
+    """Values at module level that aren't plain."""
+    values = [node.value for node in tree.body if isinstance(node, (ast.Assign, ast.AnnAssign)) and node.value]
+    return [f"L3 {type(part).__name__}" for value in values for part in ast.walk(value)
+            if not isinstance(part, PLAIN_VALUES)]
+
+
 def defined_in(text):
     """The names that a file defines itself."""
     body = ast.parse(text).body
@@ -166,7 +252,8 @@ def defined_in(text):
 def faults_of(text, package):
     tree = ast.parse(text)
     return (size_faults(text) + character_faults(text) + name_faults(tree) + shadow_faults(tree)
-            + module_faults(tree) + import_faults(tree, package) + node_faults(tree))
+            + module_faults(tree) + import_faults(tree, package) + node_faults(tree)
+            + place_faults(tree) + call_faults(tree) + value_faults(tree))
 
 
 def imported_by(text):
@@ -281,6 +368,28 @@ class Checks(unittest.TestCase):
         self.found("def f(a, /):\n    return a\n", "L4")
         self.found("def f(a, b):\n    return a is b\n", "L20")
         self.found("def f():\n    try:\n        f()\n    except Exception:\n        pass\n", "L19")
+
+    def test_places(self):
+        for right in ("sorted(k for k in a)", "any(k for k in a)", "','.join(k for k in a)", "sorted(a.items())",
+                      "[k for k in zip(a, a)]", "list(reversed(range(3)))", "sorted(set(a))", "len(set(a) - set(b))",
+                      "a in {b, 1, 2, 3}", "a in range(3)", "max(a, default=0)", "max(a, key=len)", "a ** 2"):
+            self.assertEqual(faults_of(f"def f(a, b):\n    return {right}\n", {}), [], right)
+        for wrong, rule in (("(k for k in a)", "L7"), ("f(k for k in a)", "L7"), ("zip(a, b)", "L23"),
+                            ("a.items()", "L23"), ("[range(3)]", "L23"), ("f(enumerate(a))", "L23"),
+                            ("set(a)", "L24"), ("[k for k in set(a)]", "L24"), ("list({k for k in a})", "L24"),
+                            ("set(a) <= set(b)", "L24"), ("sorted({1, 2, 3})", "L13")):
+            self.found(f"def f(a, b):\n    return {wrong}\n", rule)
+
+    def test_calls(self):
+        self.found("def f(a):\n    return int(a, base=2)\n", "L22")
+        self.found("def f(a):\n    return a.split(sep='b')\n", "L25")
+        self.found("def f(a):\n    raise a\n", "L19")
+        self.found("def f(a):\n    return 2 ** a\n", "L27")
+
+    def test_values(self):
+        self.found("x = [k for k in (1, 2)]\n", "L3")
+        self.found("x = len('ab')\n", "L3")
+        self.assertEqual(faults_of("x = (1, -2, {'a': [None]})\n", {}), [])
 
     def test_file_names(self):
         for name in ("Rooms.py", "rooms.txt", "test_rooms.py", "len.py", "_rooms.py", "conftest.py", "a-b.py"):

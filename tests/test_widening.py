@@ -7,25 +7,10 @@ from emptybox.errors import BoxError, NotFree
 from emptybox.rooms import is_box, lies_in
 from emptybox.widening import bounds_of, is_wide, reaches, widened
 from tests.helper import (
-    GREAT, all_boxes, ask_keeping, mixed_rooms, numbers_in, reach_by_steps, room_of_thirty, scaled,
-    small_rooms, step_out)
+    GREAT, all_boxes, ask_keeping, bounds_by_steps, free_boxes, mixed_rooms, numbers_in, reach_by_steps,
+    room_of_thirty, scaled, some_rooms, step_out)
 
 ORDERS = [list(order) for order in itertools.permutations(range(4))]
-
-
-def some_rooms():
-    yield from small_rooms()
-    yield from mixed_rooms()
-
-
-def free_boxes(room):
-    return [box for box in all_boxes(room[0], room[1]) if not numbers_in(room, box)]
-
-
-def bounds_by_steps(room, box):
-    """What bounds each side, by moving each out by one."""
-    ends = (box[0] == 0, box[1] == 0, box[2] == room[0], box[3] == room[1])
-    return [[-1] * ends[side] + numbers_in(room, step_out(box, side, 1)) for side in range(4)]
 
 
 def widened_by_steps(room, box, order):
