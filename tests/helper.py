@@ -5,6 +5,8 @@ import functools
 import itertools
 import random
 
+from emptybox.errors import BoxError, NotFree
+
 GREAT = 10 ** 6
 
 
@@ -102,6 +104,10 @@ def cells(box):
     return {(x, y) for x in range(box[0], box[2]) for y in range(box[1], box[3])}
 
 
+def area_by_cells(box):
+    return len(cells(box))
+
+
 def step_out(box, side, far):
     """The box with one side moved out."""
     left, low, right, top = box
@@ -195,6 +201,25 @@ def ask_keeping(test, ask, *told):
     answer = ask(*told)
     test.assertEqual(told, before)
     return answer
+
+
+def refuses_not_free(test, wall, ask, *told):
+    """That a box is refused with this wall's number, and that nothing handed in is changed by it."""
+    with test.assertRaises(BoxError) as caught:
+        ask_keeping(test, ask, *told)
+    test.assertIs(type(caught.exception), NotFree)
+    test.assertIs(type(caught.exception.wall), int)
+    test.assertEqual(caught.exception.wall, wall, told)
+
+
+def boxes_not_free(room):
+    """All boxes in which a wall lies, each with the first such wall's number."""
+    return [(box, numbers_in(room, box)[0]) for box in all_boxes(room[0], room[1]) if numbers_in(room, box)]
+
+
+# Boxes of one room in which walls lie, each with the first wall's number.
+BLOCKED_ROOM = (9, 9, ((0, 0, 1, 1), (2, 2, 2, 2), (3, 3, 3, 7), (5, 5, 8, 8)))
+BLOCKED_BOXES = (((0, 0, 9, 9), 0), ((1, 1, 9, 9), 1), ((2, 2, 9, 9), 2), ((3, 3, 9, 9), 3))
 
 
 def lists_in(answer):

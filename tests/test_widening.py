@@ -3,12 +3,11 @@
 import itertools
 import unittest
 
-from emptybox.errors import BoxError, NotFree
 from emptybox.rooms import is_box, lies_in
 from emptybox.widening import bounds_of, is_wide, reaches, widened
 from tests.helper import (
-    GREAT, all_boxes, ask_keeping, bounds_by_steps, free_boxes, mixed_rooms, numbers_in, reach_by_steps,
-    room_of_thirty, scaled, some_rooms, step_out)
+    BLOCKED_BOXES, BLOCKED_ROOM, GREAT, ask_keeping, bounds_by_steps, boxes_not_free, free_boxes, mixed_rooms,
+    reach_by_steps, refuses_not_free, room_of_thirty, scaled, some_rooms, step_out)
 
 ORDERS = [list(order) for order in itertools.permutations(range(4))]
 
@@ -155,25 +154,16 @@ class Refused(unittest.TestCase):
         asks = [(ask, (room, box)) for ask in (reaches, is_wide, bounds_of)]
         asks += [(widened, (room, box, order)) for order in (ORDERS[0], ORDERS[-1])]
         for ask, told in asks:
-            with self.assertRaises(BoxError) as caught:
-                ask_keeping(self, ask, *told)
-            self.assertIs(type(caught.exception), NotFree)
-            self.assertIs(type(caught.exception.wall), int)
-            self.assertEqual(caught.exception.wall, wall, (room, box))
+            refuses_not_free(self, wall, ask, *told)
 
     def test_the_first_wall_that_lies_in(self):
-        room = (9, 9, ((0, 0, 1, 1), (2, 2, 2, 2), (3, 3, 3, 7), (5, 5, 8, 8)))
-        self.refused(room, (0, 0, 9, 9), 0)
-        self.refused(room, (1, 1, 9, 9), 1)
-        self.refused(room, (2, 2, 9, 9), 2)
-        self.refused(room, (3, 3, 9, 9), 3)
+        for box, wall in BLOCKED_BOXES:
+            self.refused(BLOCKED_ROOM, box, wall)
 
     def test_all_boxes_that_are_not_free(self):
         for room in mixed_rooms(30):
-            for box in all_boxes(room[0], room[1]):
-                inside = numbers_in(room, box)
-                if inside:
-                    self.refused(room, box, inside[0])
+            for box, wall in boxes_not_free(room):
+                self.refused(room, box, wall)
 
     def test_least_and_greatest_rooms(self):
         self.refused((1, 1, ((0, 0, 1, 1),)), (0, 0, 1, 1), 0)

@@ -1,0 +1,19 @@
+"""Boxes within a window, which is a box too."""
+
+from emptybox.boxes import boxes_within
+from emptybox.rooms import area_of
+
+
+def in_window(room, window):
+    """The rising list of all free boxes in the window that can't be made wider within it."""
+    return boxes_within(room, window)
+
+
+def greatest_in(room, window):
+    """The greatest area of these, and the first box that has it; (0, None) without any."""
+    boxes = in_window(room, window)
+    if not boxes:
+        return (0, None)
+    # Of several that are greatest, max tells the first.
+    box = max(boxes, key=area_of)
+    return (area_of(box), box)
