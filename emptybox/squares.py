@@ -1,13 +1,12 @@
 """Free squares: boxes as wide as high."""
 
 from emptybox.boxes import wide_boxes
-from emptybox.rooms import is_free
+from emptybox.counting import fits
 
 
 def squares_of(room, side):
     """The rising list of the pairs (left, low) of all free squares of that side."""
-    return [(left, low) for left in range(room[0] - side + 1) for low in range(room[1] - side + 1)
-            if is_free(room, (left, low, left + side, low + side))]
+    return fits(room, side, side)
 
 
 def largest_square(room):

@@ -78,6 +78,18 @@ def room_of_thirty(times=1):
     return (10 * times, 10 * times, tuple(tuple(times * part for part in wall) for wall in walls))
 
 
+def room_of_forty():
+    """A room 40 wide and high with 30 walls."""
+    walls = {(7 * k % 39, 11 * k % 37, 7 * k % 39 + k % 3 // 2, 11 * k % 37 + k % 4) for k in range(30)}
+    return (40, 40, tuple(sorted(walls)))
+
+
+# Rooms in which no box is free.
+FILLED = ((1, 1, ((0, 0, 1, 1),)), (3, 2, ((0, 0, 3, 2),)), (3, 2, ((0, 0, 2, 2), (1, 0, 3, 2))),
+          (4, 4, ((0, 0, 2, 4), (2, 0, 4, 2), (2, 2, 4, 4), (3, 3, 3, 3))), (40, 40, ((0, 0, 40, 40),)))
+GREAT_FILLED = (GREAT, GREAT, ((0, 0, GREAT, GREAT),))
+
+
 def scaled(box, times):
     return tuple(times * part for part in box)
 
@@ -145,14 +157,33 @@ def wide_by_steps(room):
     return [box for box in free_boxes(room) if all(bounds_by_steps(room, box))]
 
 
-def parts_beside(box, wall):
-    """The greatest parts of a box that a wall leaves free: all of it where the wall isn't in it."""
+def is_beside(box, wall):
+    """Whether a wall isn't in a box, however great."""
+    return box[2] <= wall[0] or wall[2] <= box[0] or box[3] <= wall[1] or wall[3] <= box[1]
+
+
+def four_beside(box, wall):
+    """What of a box is left of a wall in it, below, right of and above it, None where that is nothing."""
     left, low, right, top = box
     a, b, c, d = wall
-    if right <= a or c <= left or top <= b or d <= low:
-        return [box]
     parts = [(left, low, a, top), (left, low, right, b), (c, low, right, top), (left, d, right, top)]
-    return [part for part in parts if part[0] < part[2] and part[1] < part[3]]
+    return [part if part[0] < part[2] and part[1] < part[3] else None for part in parts]
+
+
+def parts_beside(box, wall):
+    """The greatest parts of a box that a wall leaves free: all of it where the wall isn't in it."""
+    return [box] if is_beside(box, wall) else [part for part in four_beside(box, wall) if part]
+
+
+def tree_holds(room, part, area, tree):
+    """Whether a tree, of what may be a tree by its form, shows that nothing free in a part is greater than area."""
+    if tree == ("small",):
+        return (part[2] - part[0]) * (part[3] - part[1]) <= area
+    word, number, trees = tree
+    if word != "wall" or number not in range(len(room[2])) or is_beside(part, room[2][number]) or len(trees) != 4:
+        return False
+    return all(one is below is None or (one and below and tree_holds(room, one, area, below))
+               for one, below in zip(four_beside(part, room[2][number]), trees))
 
 
 def is_within(one, other):

@@ -8,11 +8,8 @@ from emptybox.rooms import area_of, is_box, room_of
 from emptybox.widecheck import shows_wide
 from emptybox.widening import bounds_of, is_wide
 from tests.helper import (
-    GREAT, all_walls, ask_keeping, cells, falling_row, free_boxes, great_rooms, mixed_rooms, rising_row,
-    room_of_thirty, scaled, some_rooms, tells_own_lists, wide_by_splitting, wide_by_steps)
-
-FILLED = [(1, 1, ((0, 0, 1, 1),)), (3, 2, ((0, 0, 3, 2),)), (3, 2, ((0, 0, 2, 2), (1, 0, 3, 2))),
-          (4, 4, ((0, 0, 2, 4), (2, 0, 4, 2), (2, 2, 4, 4), (3, 3, 3, 3))), (GREAT, GREAT, ((0, 0, GREAT, GREAT),))]
+    FILLED, GREAT, GREAT_FILLED, all_walls, ask_keeping, cells, falling_row, free_boxes, great_rooms, mixed_rooms,
+    rising_row, room_of_thirty, scaled, some_rooms, tells_own_lists, wide_by_splitting, wide_by_steps)
 
 
 class WideBoxes(unittest.TestCase):
@@ -44,7 +41,7 @@ class WideBoxes(unittest.TestCase):
         self.agrees((GREAT, GREAT, ()), [(0, 0, GREAT, GREAT)])
 
     def test_filled_rooms(self):
-        for room in FILLED:
+        for room in (*FILLED, GREAT_FILLED):
             self.agrees(room, [])
 
     def test_walls_at_the_room_s_end_part_nothing(self):
@@ -135,7 +132,7 @@ class Largest(unittest.TestCase):
         self.agrees((GREAT, GREAT, ()), (GREAT * GREAT, [(0, 0, GREAT, GREAT)]))
 
     def test_filled_rooms(self):
-        for room in FILLED:
+        for room in (*FILLED, GREAT_FILLED):
             self.agrees(room, (0, []))
 
     def test_several_alike(self):

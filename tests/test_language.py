@@ -304,7 +304,7 @@ class Package(unittest.TestCase):
     def test_each_file_keeps_the_rules(self):
         texts = package_texts()
         package = {name: defined_in(text) for name, text in texts.items()}
-        self.assertGreaterEqual(len(texts), 11)
+        self.assertGreaterEqual(len(texts), 14)
         for name, text in texts.items():
             self.assertEqual(faults_of(text, package), [], name)
 

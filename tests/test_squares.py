@@ -3,14 +3,11 @@
 import itertools
 import unittest
 
-from emptybox.rooms import is_free, room_of
+from emptybox.rooms import is_free
 from emptybox.squares import largest_square, squares_of
 from tests.helper import (
-    GREAT, all_boxes, ask_keeping, free_boxes, mixed_rooms, rising_row, room_of_thirty, some_rooms,
-    tells_own_lists)
-
-FILLED = [(1, 1, ((0, 0, 1, 1),)), (4, 3, ((0, 0, 4, 3),)), (4, 4, ((0, 0, 2, 4), (2, 0, 4, 2), (2, 2, 4, 4))),
-          (40, 40, ((0, 0, 40, 40),))]
+    FILLED, GREAT, all_boxes, ask_keeping, free_boxes, mixed_rooms, rising_row, room_of_forty, room_of_thirty,
+    some_rooms, tells_own_lists)
 
 
 def squares_by_boxes(room):
@@ -20,12 +17,6 @@ def squares_by_boxes(room):
         if right - left == top - low:
             found.setdefault(right - left, []).append((left, low))
     return found
-
-
-def room_of_forty():
-    """A room 40 wide and high with 30 walls."""
-    walls = [(7 * k % 39, 11 * k % 37, 7 * k % 39 + k % 3 // 2, 11 * k % 37 + k % 4) for k in range(30)]
-    return room_of(40, 40, walls)
 
 
 class SquaresOf(unittest.TestCase):
