@@ -1,6 +1,6 @@
 """How many free boxes and wide boxes there are, of which sizes, and where they stand."""
 
-from emptybox.boxes import cut_gaps, wide_boxes
+from emptybox.boxes import cut_gaps, heights_of, wide_boxes
 from emptybox.rooms import area_of, is_free
 
 
@@ -33,7 +33,7 @@ def count_from(room, left):
     many = 0
     for right in range(left + 1, wide + 1):
         # A wall stays in the way once the right side has come past its beginning.
-        gaps = cut_gaps(gaps, [wall for wall in beyond if max(wall[0], left) == right - 1])
+        gaps = cut_gaps(gaps, heights_of([wall for wall in beyond if max(wall[0], left) == right - 1]))
         many += sum([count_in_gap(gap) for gap in gaps])
     return many
 

@@ -1,8 +1,7 @@
 """The greatest area of a free box, with a tree that shows that none is greater."""
 
-from emptybox.boxes import largest
-from emptybox.greatestcheck import parts_around
-from emptybox.rooms import area_of, walls_in
+from emptybox.boxes import first_greatest, wide_boxes
+from emptybox.rooms import area_of, parts_around, walls_in
 
 
 def left_over(room, part, number, area):
@@ -25,6 +24,5 @@ def tree_of(room, part, area):
 
 def greatest_paper(room):
     """The tuple of the greatest area, the first wide box that has it (None of none), and a tree for it."""
-    area, boxes = largest(room)
-    box = boxes[0] if boxes else None
+    area, box = first_greatest(wide_boxes(room))
     return (area, box, tree_of(room, (0, 0, room[0], room[1]), area))

@@ -3,15 +3,7 @@
 A tree is of a part of the room, which is a box: it shows that no free box in this part has a greater area than told.
 """
 
-from emptybox.rooms import area_of, in_both, is_box, is_free, is_number, wall_lies_in
-
-
-def parts_around(part, wall):
-    """What of a part is left of a wall in it, below, right of and above it: each a box, or None of nothing."""
-    left, low, right, top = part
-    a, b, c, d = wall
-    around = [(left, low, a, top), (left, low, right, b), (c, low, right, top), (left, d, right, top)]
-    return [in_both(part, one) for one in around]
+from emptybox.rooms import area_of, is_box, is_free, is_number, parts_around, wall_lies_in
 
 
 def is_split(room, part, thing):

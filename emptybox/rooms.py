@@ -64,6 +64,11 @@ def wall_lies_in(wall, box):
     return left < c and a < right and low < d and b < top
 
 
+def walls_at(room, box):
+    """The rising list of all walls that lie in the box."""
+    return [wall for wall in room[2] if wall_lies_in(wall, box)]
+
+
 def walls_in(room, box):
     """The rising list of the numbers of all walls that lie in the box."""
     return [number for number, wall in enumerate(room[2]) if wall_lies_in(wall, box)]
@@ -91,3 +96,11 @@ def in_both(one, other):
     if left < right and low < top:
         return (left, low, right, top)
     return None
+
+
+def parts_around(box, wall):
+    """What of a box is left of a wall in it, below, right of and above it: each a box, or None of nothing."""
+    left, low, right, top = box
+    a, b, c, d = wall
+    parts = [(left, low, a, top), (left, low, right, b), (c, low, right, top), (left, d, right, top)]
+    return [in_both(box, part) for part in parts]

@@ -1,7 +1,6 @@
 """Boxes within a window, which is a box too."""
 
-from emptybox.boxes import boxes_within
-from emptybox.rooms import area_of
+from emptybox.boxes import boxes_within, first_greatest
 
 
 def in_window(room, window):
@@ -11,9 +10,4 @@ def in_window(room, window):
 
 def greatest_in(room, window):
     """The greatest area of these, and the first box that has it; (0, None) without any."""
-    boxes = in_window(room, window)
-    if not boxes:
-        return (0, None)
-    # Of several that are greatest, max tells the first.
-    box = max(boxes, key=area_of)
-    return (area_of(box), box)
+    return first_greatest(in_window(room, window))

@@ -196,12 +196,25 @@ def not_within_another(boxes):
     return sorted(one for one in unlike if not any(one != other and is_within(one, other) for other in unlike))
 
 
-def wide_by_splitting(room):
-    """All wide boxes, rising, however great the room: all of it, parted by one wall after the other."""
-    boxes = [(0, 0, room[0], room[1])]
+@functools.lru_cache(maxsize=256)
+def parted(room, window):
+    """The window parted by one wall after the other, but for what lies in another part."""
+    boxes = [window]
     for wall in room[2]:
         boxes = not_within_another(part for box in boxes for part in parts_beside(box, wall))
-    return boxes
+    return tuple(boxes)
+
+
+def wide_by_splitting(room, window=None):
+    """All wide boxes, rising, however great the room: all of it, or a window, parted by its walls."""
+    return list(parted(room, window or (0, 0, room[0], room[1])))
+
+
+def first_of_the_greatest(boxes):
+    """The greatest area, and the first box that has it."""
+    found = [((right - left) * (top - low), (left, low, right, top)) for left, low, right, top in boxes]
+    area = max([area for area, box in found], default=0)
+    return (area, min([box for one, box in found if one == area], default=None))
 
 
 def nested(depth, of=tuple, inner=0):

@@ -9,8 +9,9 @@ from emptybox.greatest import greatest_paper
 from emptybox.greatestcheck import shows_greatest
 from emptybox.rooms import is_free
 from tests.helper import (
-    FILLED, GREAT, GREAT_FILLED, area_by_cells, ask_keeping, falling_row, free_boxes, great_rooms, lists_in,
-    mixed_rooms, rising_row, room_of_forty, small_rooms, tree_holds, wide_by_splitting, wide_by_steps)
+    FILLED, GREAT, GREAT_FILLED, area_by_cells, ask_keeping, falling_row, first_of_the_greatest, free_boxes,
+    great_rooms, lists_in, mixed_rooms, rising_row, room_of_forty, small_rooms, tree_holds, wide_by_splitting,
+    wide_by_steps)
 
 
 def rooms_of_twelve(many=20):
@@ -24,13 +25,6 @@ def rooms_of_twelve(many=20):
             kinds = ((a, b, a, b), (a, b, c, b), (a, b, a, d), (a, b, (3 * a + c) // 4, (3 * b + d) // 4), (a, b, c, d))
             walls.add(kinds[source.randint(0, 3 + at % 2)])
         yield (size, size, tuple(sorted(walls)))
-
-
-def first_of_the_greatest(boxes):
-    """The greatest area, and the first box that has it."""
-    found = [((right - left) * (top - low), (left, low, right, top)) for left, low, right, top in boxes]
-    area = max([area for area, box in found], default=0)
-    return (area, min([box for one, box in found if one == area], default=None))
 
 
 class GreatestPaper(unittest.TestCase):

@@ -31,6 +31,11 @@ METHODS = set("""append clear copy count endswith extend find get index insert i
     capitalize swapcase casefold center expandtabs removeprefix removesuffix rindex isascii isdecimal isnumeric
     istitle isidentifier isprintable translate maketrans sort add discard encode decode hex fromhex to_bytes
     from_bytes""".split())
+OWN_METHODS = set("""add discard append clear copy count endswith extend find get index insert isalnum isalpha isdigit
+    islower isspace isupper items join keys ljust lower lstrip partition pop remove replace reverse rfind rjust
+    rpartition rsplit rstrip setdefault split splitlines startswith strip update upper values zfill
+    bit_length""".split())
+OWN_ATTRIBUTES = set("count index title find get join lower upper split strip copy add".split())
 BARRED_NODES = (ast.Global, ast.AsyncFunctionDef, ast.AsyncFor, ast.AsyncWith, ast.Await, ast.Div, ast.MatMult)
 FUNCTIONS = (ast.FunctionDef, ast.Lambda)
 KEYWORDS = {"sorted": {"key", "reverse"}, "min": {"key", "default"}, "max": {"key", "default"},
@@ -242,6 +247,35 @@ def value_faults(tree):
             if not isinstance(part, PLAIN_VALUES)]
 
 
+def nested_faults(tree):
+    """Lists and dicts at module level that hold lists or dicts."""
+    values = [node.value for node in tree.body if isinstance(node, (ast.Assign, ast.AnnAssign)) and node.value]
+    outer = [part for value in values for part in ast.walk(value) if isinstance(part, (ast.List, ast.Dict))]
+    return ["L15 list in a list" for one in outer for part in ast.walk(one)
+            if part is not one and isinstance(part, (ast.List, ast.Dict))]
+
+
+def init_faults(tree):
+    return ["L28 return" for node in ast.walk(tree) if isinstance(node, ast.FunctionDef) and node.name == "__init__"
+            for part in ast.walk(node) if isinstance(part, ast.Return) and part.value]
+
+
+def class_faults(texts):
+    """What can be seen of methods and attributes in all files together only."""
+    nodes = [node for text in texts for node in ast.walk(ast.parse(text))]
+    bodies = [part for node in nodes if isinstance(node, ast.ClassDef) for part in node.body]
+    methods = {part.name for part in bodies if isinstance(part, ast.FunctionDef)}
+    stored = {node.attr for node in nodes if isinstance(node, ast.Attribute) and isinstance(node.ctx, ast.Store)}
+    read = {node.attr for node in nodes if isinstance(node, ast.Attribute) and isinstance(node.ctx, ast.Load)}
+    faults = [f"L18 {name} is a method and an attribute" for name in methods & stored]
+    faults += [f"L18 {name} is assigned nowhere" for name in read - stored - methods - METHODS - {"__init__"}]
+    faults += [f"L26 {name}" for name in methods & VALUE_METHODS - OWN_METHODS]
+    faults += [f"L26 {name}" for name in stored & VALUE_METHODS - OWN_ATTRIBUTES]
+    faults += [f"L5 {type(part).__name__}" for part in bodies
+               if not isinstance(part, (ast.FunctionDef, ast.Assign)) and not is_docstring(part)]
+    return faults
+
+
 def defined_in(text):
     """The names that a file defines itself."""
     body = ast.parse(text).body
@@ -253,7 +287,8 @@ def faults_of(text, package):
     tree = ast.parse(text)
     return (size_faults(text) + character_faults(text) + name_faults(tree) + shadow_faults(tree)
             + module_faults(tree) + import_faults(tree, package) + node_faults(tree)
-            + place_faults(tree) + call_faults(tree) + value_faults(tree))
+            + place_faults(tree) + call_faults(tree) + value_faults(tree) + nested_faults(tree)
+            + init_faults(tree))
 
 
 def imported_by(text):
@@ -304,9 +339,12 @@ class Package(unittest.TestCase):
     def test_each_file_keeps_the_rules(self):
         texts = package_texts()
         package = {name: defined_in(text) for name, text in texts.items()}
-        self.assertGreaterEqual(len(texts), 14)
+        self.assertGreaterEqual(len(texts), 18)
         for name, text in texts.items():
             self.assertEqual(faults_of(text, package), [], name)
+
+    def test_classes(self):
+        self.assertEqual(class_faults(package_texts().values()), [])
 
     def test_no_circle_of_imports(self):
         self.assertFalse(has_circle({name: imported_by(text) for name, text in package_texts().items()}))
@@ -320,7 +358,8 @@ class Checks(unittest.TestCase):
         self.assertTrue(any(fault.startswith(rule + " ") for fault in faults), (text, faults))
 
     def test_nothing_found(self):
-        text = '"""A file."""\n\nfrom emptybox.rooms import is_box\n\nMOST = 3\n\n\ndef ask(room):\n    return is_box(room, 0)\n'
+        text = ('"""A file."""\n\nfrom emptybox.rooms import is_box\n\nMOST = 3\n\n\n'
+                'def ask(room):\n    return is_box(room, 0)\n')
         self.assertEqual(faults_of(text, {"emptybox.rooms": ["is_box"]}), [])
 
     def test_sizes(self):
@@ -389,7 +428,23 @@ class Checks(unittest.TestCase):
     def test_values(self):
         self.found("x = [k for k in (1, 2)]\n", "L3")
         self.found("x = len('ab')\n", "L3")
-        self.assertEqual(faults_of("x = (1, -2, {'a': [None]})\n", {}), [])
+        self.assertEqual(faults_of("x = (1, -2, {'a': None})\n", {}), [])
+
+        self.found("x = {'a': [1]}\n", "L15")
+        self.found("x = [({},)]\n", "L15")
+        self.assertEqual(faults_of("x = {'a': (1, (2, 3))}\n", {}), [])
+
+    def test_methods_and_attributes(self):
+        for texts, rule in ((["class A:\n    def b(self):\n        return 1\n", "def f(a):\n    a.b = 1\n"], "L18"),
+                            (["def f(a):\n    return a.b\n"], "L18"),
+                            (["class A:\n    def decode(self):\n        return 1\n"], "L26"),
+                            (["def f(a):\n    a.items = 1\n"], "L26"),
+                            (["class A:\n    if 1:\n        x = 1\n"], "L5")):
+            faults = class_faults(texts)
+            self.assertTrue(any(fault.startswith(rule + " ") for fault in faults), (texts, faults))
+        right = ["class A:\n    def get(self):\n        self.index = 1\n        return self.index\n"]
+        self.assertEqual(class_faults(right), [])
+        self.found("class A:\n    def __init__(self):\n        return None\n", "L28")
 
     def test_file_names(self):
         for name in ("Rooms.py", "rooms.txt", "test_rooms.py", "len.py", "_rooms.py", "conftest.py", "a-b.py"):
